@@ -1,0 +1,1 @@
+"""Reprise: a lost song that is known by its refrains."""

@@ -1,0 +1,79 @@
+"""A plain joining of places one by one, and songs to hold against it."""
+
+import random
+
+GREATEST = 10 ** 40 - 1
+
+
+def pairs_of(saying):
+    """The pairs of places that a saying says alike."""
+    one, other, many, turned = saying
+    for i in range(many):
+        yield one + i, (other + many - 1 - i if turned else other + i)
+
+
+def plain_firsts(length, sayings):
+    """For each place its first, by joining the places one by one."""
+    groups = {place: [place] for place in range(length)}
+    at = list(range(length))
+    for saying in sayings:
+        for one, other in pairs_of(saying):
+            low, high = sorted((at[one], at[other]))
+            if low != high:
+                for place in groups.pop(high):
+                    at[place] = low
+                    groups[low].append(place)
+    return at
+
+
+def rows_of(places):
+    """The list of stretches of some places."""
+    rows = []
+    for place in sorted(set(places)):
+        if rows and rows[-1][1] == place:
+            rows[-1] = (rows[-1][0], place + 1)
+        else:
+            rows.append((place, place + 1))
+    return rows
+
+
+def some_saying(chance, length, longest):
+    """A saying of a song, of stretches of at most so many places."""
+    many = chance.randint(1, max(1, min(length, longest)))
+    one = chance.randint(0, length - many)
+    other = chance.randint(0, length - many)
+    return one, other, many, chance.random() < 0.5
+
+
+def some_sayings(chance, length, count):
+    """Sayings of a song, of longer and of shorter stretches."""
+    longest = chance.choice([length, length // 2, length // 4, length // 10, 2])
+    return [some_saying(chance, length, longest) for _ in range(count)]
+
+
+def exchanged_pieces(chance, length, count, turning):
+    """Sayings that tell a song as its own pieces in another order."""
+    marks = sorted(chance.sample(range(1, min(length, 10 ** 15)), count - 1))
+    scale = max(1, length // 10 ** 15)
+    starts = [0] + [mark * scale for mark in marks]
+    pieces = list(zip(starts, starts[1:] + [length]))
+    chance.shuffle(pieces)
+    sayings = []
+    to = 0
+    for low, behind in pieces:
+        sayings.append((low, to, behind - low, chance.random() < turning))
+        to += behind - low
+    return sayings
+
+
+def great_songs():
+    """Pairs (length, sayings) of songs too long to be gone through."""
+    chance = random.Random(404)
+    songs = []
+    for length in (10 ** 15, 10 ** 27 + 7, 10 ** 39, GREATEST):
+        for count in (0, 1, 2, 3, 5, 8, 24):
+            songs.append((length, some_sayings(chance, length, count)))
+        for turning in (0, 0.2):
+            for count in (2, 3, 7, 24):
+                songs.append((length, exchanged_pieces(chance, length, count, turning)))
+    return songs
