@@ -1,6 +1,6 @@
-"""What a song's length, places, stretches and sayings must be."""
+"""What a song's length, places, stretches, sayings and memories must be."""
 
-from reprise.errors import BadLength, BadStretch, NoPlace
+from reprise.errors import BadLength, BadLetter, BadStretch, NoPlace
 
 TOO_LONG = 10 ** 40
 
@@ -28,3 +28,15 @@ def check_sayings(length, sayings):
     for one, other, many, turned in sayings:
         check_stretch(length, one, many)
         check_stretch(length, other, many)
+
+
+def check_letter(letter):
+    """Refuse a note that is not one small letter."""
+    if not isinstance(letter, str) or len(letter) != 1 or letter < "a" or letter > "z":
+        raise BadLetter("a note is one small letter from a to z")
+
+
+def check_memory(length, letter, at, many):
+    """Refuse a memory whose letter is none, or whose stretch is none of the song."""
+    check_letter(letter)
+    check_stretch(length, at, many)

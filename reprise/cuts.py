@@ -47,9 +47,14 @@ def partner(kept, saying):
     low, high, many, turned = saying
     if turned:
         return None
+    lead = high - low
     for k, (its_low, its_high, its_many, its_turned) in enumerate(kept):
+        its_lead = its_high - its_low
+        # Mostly a reach alone is less than both leads, and this is seen sooner.
+        if its_turned or many < its_lead or its_many < lead:
+            continue
         shared = min(high + many, its_high + its_many) - max(low, its_low)
-        if not its_turned and shared >= high - low + its_high - its_low:
+        if shared >= lead + its_lead:
             return k
     return None
 

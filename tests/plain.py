@@ -26,6 +26,14 @@ def plain_firsts(length, sayings):
     return at
 
 
+def plain_parted(told, asked):
+    """Where two stretches part, by the list of firsts, place by place."""
+    for i, (one, other) in enumerate(pairs_of(asked)):
+        if told[one] != told[other]:
+            return i
+    return None
+
+
 def rows_of(places):
     """The list of stretches of some places."""
     rows = []
@@ -77,3 +85,37 @@ def great_songs():
             for count in (2, 3, 7, 24):
                 songs.append((length, exchanged_pieces(chance, length, count, turning)))
     return songs
+
+
+def some_places(chance, low, many):
+    """The places at the edges of a stretch and some within."""
+    within = [chance.randint(0, many - 1) for _ in range(6)]
+    return sorted({low + i for i in [0, many - 1, many // 2, *within]})
+
+
+def block_firsts(length, sayings):
+    """For each block its first block and whether it lies turned there, and the first
+    blocks that are mirrors; found by walking from block to block."""
+    beside = [[] for _ in range(length)]
+    for one, other, many, turned in sayings:
+        for i in range(many):
+            to = other + many - 1 - i if turned else other + i
+            beside[one + i].append((to, turned))
+            beside[to].append((one + i, turned))
+    told = {}
+    mirrors = set()
+    for root in range(length):
+        if root in told:
+            continue
+        told[root] = (root, False)
+        waiting = [root]
+        while waiting:
+            block = waiting.pop()
+            for to, turned in beside[block]:
+                way = told[block][1] != turned
+                if to not in told:
+                    told[to] = (root, way)
+                    waiting.append(to)
+                elif told[to][1] != way:
+                    mirrors.add(root)
+    return told, mirrors

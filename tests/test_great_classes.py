@@ -6,43 +6,9 @@ import unittest
 
 from reprise.classes import Classes
 from reprise.stretches import breadth, has
-from tests.plain import GREATEST, great_songs, some_sayings
+from tests.plain import GREATEST, block_firsts, great_songs, some_places, some_sayings
 
 BLOCKS = (1, 2, 3, 10, 11, 10 ** 20, 10 ** 38 + 1, 2 * 10 ** 38)
-
-
-def some_places(chance, low, many):
-    """The places at the edges of a stretch and some within."""
-    within = [chance.randint(0, many - 1) for _ in range(6)]
-    return sorted({low + i for i in [0, many - 1, many // 2, *within]})
-
-
-def block_firsts(length, sayings):
-    """For each block its first block and whether it lies turned there, and the first
-    blocks that are mirrors; found by walking from block to block."""
-    beside = [[] for _ in range(length)]
-    for one, other, many, turned in sayings:
-        for i in range(many):
-            to = other + many - 1 - i if turned else other + i
-            beside[one + i].append((to, turned))
-            beside[to].append((one + i, turned))
-    told = {}
-    mirrors = set()
-    for root in range(length):
-        if root in told:
-            continue
-        told[root] = (root, False)
-        waiting = [root]
-        while waiting:
-            block = waiting.pop()
-            for to, turned in beside[block]:
-                way = told[block][1] != turned
-                if to not in told:
-                    told[to] = (root, way)
-                    waiting.append(to)
-                elif told[to][1] != way:
-                    mirrors.add(root)
-    return told, mirrors
 
 
 class GreatSongs(unittest.TestCase):

@@ -89,10 +89,28 @@ INTERFACE = {
                "NothingLeft", "BadPage"],
     "stretches": ["tidy", "breadth", "has", "meet", "under", "kth"],
     "classes": ["Classes"],
+    "likes": ["alike", "parted", "beat", "mirror"],
+    "small": ["each_first", "wrong", "path", "leads"],
+    "memory": ["Memories"],
 }
 
 METHODS = {
     "Classes": ["length", "count", "firsts", "first", "same", "below", "numbered", "image"],
+    "Memories": ["note", "settled", "free", "quarrel", "shown"],
+}
+
+
+ARGUMENTS = {
+    "stretches": {"tidy": "rows", "breadth": "rows", "has": "rows place", "meet": "rows others", "under": "rows place",
+                  "kth": "rows k"},
+    "classes": {"__init__": "length sayings", "length": "", "count": "", "firsts": "", "first": "place",
+                "same": "one other", "below": "place", "numbered": "k", "image": "at many"},
+    "likes": {"alike": "length sayings one other many turned", "parted": "length sayings one other many turned",
+              "beat": "length sayings at many step", "mirror": "length sayings at many"},
+    "small": {"each_first": "length sayings", "wrong": "length sayings told", "path": "length sayings one other",
+              "leads": "length sayings one steps"},
+    "memory": {"__init__": "classes rows", "note": "place", "settled": "", "free": "", "quarrel": "",
+               "shown": "at many"},
 }
 
 
@@ -111,6 +129,15 @@ class Interface(unittest.TestCase):
                     defined = [part.name for part in node.body if isinstance(part, ast.FunctionDef)]
                     for method in METHODS.get(node.name, []):
                         self.assertIn(method, defined)
+
+
+    def test_arguments(self):
+        for file, told in ARGUMENTS.items():
+            tree = ast.parse((FOLDER / f"{file}.py").read_text())
+            defined = {node.name: [part.arg for part in node.args.args if part.arg != "self"]
+                       for node in ast.walk(tree) if isinstance(node, ast.FunctionDef)}
+            for name, names in told.items():
+                self.assertEqual(defined[name], names.split(), f"{file} {name}")
 
 
 class Names(unittest.TestCase):
