@@ -3,6 +3,7 @@
 import random
 
 GREATEST = 10 ** 40 - 1
+FAR = 10 ** 45 - 1
 
 
 def pairs_of(saying):
@@ -32,6 +33,29 @@ def plain_parted(told, asked):
         if told[one] != told[other]:
             return i
     return None
+
+
+def plain_notes(told, rows):
+    """For each first that is settled its letter."""
+    notes = {}
+    for number, letter, at, many in rows:
+        for place in range(at, at + many):
+            notes.setdefault(told[place], letter)
+    return notes
+
+
+def plain_quarrel(told, rows):
+    """The first quarrel, of all pairs of memories and all places that are alike to both."""
+    quarrels = []
+    for one, its_letter, its_at, its_many in rows:
+        for other, letter, at, many in rows:
+            if one < other and letter != its_letter:
+                shared = set(told[its_at:its_at + its_many]) & set(told[at:at + many])
+                quarrels += [(other, one, place) for place in range(len(told)) if told[place] in shared]
+    if not quarrels:
+        return None
+    other, one, place = min(quarrels)
+    return one, other, place
 
 
 def rows_of(places):
@@ -119,3 +143,9 @@ def block_firsts(length, sayings):
                 elif told[to][1] != way:
                     mirrors.add(root)
     return told, mirrors
+
+
+def bad_stretches(length):
+    """Pairs (at, many) that are no stretches of a song."""
+    return [(0, 0), (2, 0), (0, -1), (2, -1), (length, 0), (length + 1, -1), (-1, 1), (-1, 2), (-FAR, FAR),
+            (length, 1), (length - 1, 2), (0, length + 1), (1, length), (FAR, 1), (0, FAR), (FAR, -FAR), (0, -FAR)]

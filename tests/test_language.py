@@ -35,6 +35,8 @@ def bound_names(tree):
             yield node.arg
         elif isinstance(node, ast.Name) and isinstance(node.ctx, ast.Store):
             yield node.id
+        elif isinstance(node, (ast.MatchAs, ast.MatchStar)) and node.name is not None:
+            yield node.name
 
 
 class Files(unittest.TestCase):
@@ -83,6 +85,14 @@ class Files(unittest.TestCase):
                     for alias in node.names:
                         self.assertIn(alias.name, defined[node.module.split(".")[1]], name)
 
+    def test_no_two_files_import_from_each_other(self):
+        ahead = {name[:-3]: {node.module.split(".")[1] for node in tree.body if isinstance(node, ast.ImportFrom)}
+                 for name, tree in trees()}
+        while ahead:
+            free = [name for name in ahead if not ahead[name] & set(ahead)]
+            self.assertNotEqual(free, [], sorted(ahead))
+            ahead = {name: ahead[name] for name in ahead if name not in free}
+
 
 INTERFACE = {
     "errors": ["RepriseError", "BadLength", "BadStretch", "NoPlace", "NoNumber", "BadLetter", "Full", "InUse",
@@ -92,13 +102,18 @@ INTERFACE = {
     "likes": ["alike", "parted", "beat", "mirror"],
     "small": ["each_first", "wrong", "path", "leads"],
     "memory": ["Memories"],
+    "book": ["Book"],
+    "pages": ["page", "read"],
+    "desk": ["Desk"],
 }
 
 METHODS = {
     "Classes": ["length", "count", "firsts", "first", "same", "below", "numbered", "image"],
     "Memories": ["note", "settled", "free", "quarrel", "shown"],
+    "Book": ["length", "coming", "sayings", "memories", "say", "remember", "unsay", "amend", "forget", "lengthen",
+             "shorten", "undo", "redo", "undoable", "redoable", "classes", "heard", "if_said", "twin"],
+    "Desk": ["tell", "book"],
 }
-
 
 ARGUMENTS = {
     "stretches": {"tidy": "rows", "breadth": "rows", "has": "rows place", "meet": "rows others", "under": "rows place",
@@ -111,6 +126,13 @@ ARGUMENTS = {
               "leads": "length sayings one steps"},
     "memory": {"__init__": "classes rows", "note": "place", "settled": "", "free": "", "quarrel": "",
                "shown": "at many"},
+    "book": {"__init__": "length", "length": "", "coming": "", "sayings": "", "memories": "",
+             "say": "one other many turned", "remember": "letter at many", "unsay": "number",
+             "amend": "number one other many turned", "forget": "number", "lengthen": "many", "shorten": "many",
+             "undo": "", "redo": "", "undoable": "", "redoable": "", "classes": "", "heard": "",
+             "if_said": "one other many turned", "twin": ""},
+    "pages": {"page": "book", "read": "text"},
+    "desk": {"__init__": "length", "tell": "text", "book": ""},
 }
 
 
@@ -129,7 +151,6 @@ class Interface(unittest.TestCase):
                     defined = [part.name for part in node.body if isinstance(part, ast.FunctionDef)]
                     for method in METHODS.get(node.name, []):
                         self.assertIn(method, defined)
-
 
     def test_arguments(self):
         for file, told in ARGUMENTS.items():
@@ -175,6 +196,31 @@ class Names(unittest.TestCase):
                 elif isinstance(node, ast.Attribute) and isinstance(node.ctx, ast.Store):
                     attributes.add(node.attr)
         self.assertEqual(methods & attributes, set())
+
+
+def captured_names(node):
+    """Names that the patterns in a part of a file capture."""
+    return {part.name for part in ast.walk(node) if isinstance(part, (ast.MatchAs, ast.MatchStar)) and part.name}
+
+
+class Matches(unittest.TestCase):
+    def test_a_captured_name_means_nothing_else_in_its_function(self):
+        for name, tree in trees():
+            for node in ast.walk(tree):
+                if isinstance(node, ast.FunctionDef):
+                    stored = {part.id for part in ast.walk(node)
+                              if isinstance(part, ast.Name) and isinstance(part.ctx, ast.Store)}
+                    stored |= {part.arg for part in ast.walk(node) if isinstance(part, ast.arg)}
+                    self.assertEqual(stored & captured_names(node), set(), f"{name} {node.name}")
+
+    def test_a_captured_name_is_read_in_its_own_case_only(self):
+        for name, tree in trees():
+            for node in ast.walk(tree):
+                if isinstance(node, ast.FunctionDef):
+                    for case in [part for part in ast.walk(node) if isinstance(part, ast.match_case)]:
+                        read = {part.id for part in ast.walk(case) if isinstance(part, ast.Name)}
+                        self.assertLessEqual(read & captured_names(node), captured_names(case.pattern),
+                                             f"{name} {node.name}")
 
 
 class Expressions(unittest.TestCase):

@@ -5,16 +5,9 @@ import unittest
 from reprise.errors import BadLength, BadStretch, NoPlace
 from reprise.likes import alike, beat, mirror, parted
 from reprise.small import each_first, leads, path, wrong
-from tests.plain import GREATEST
-
-FAR = 10 ** 45 - 1
+from tests.plain import FAR, GREATEST, bad_stretches
 
 BAD_LENGTHS = (-1, -FAR, 10 ** 40, 10 ** 40 + 1, FAR)
-
-
-def bad_stretches(length):
-    return [(0, 0), (2, 0), (0, -1), (2, -1), (length, 0), (length + 1, -1), (-1, 1), (-1, 2), (-FAR, FAR),
-            (length, 1), (length - 1, 2), (0, length + 1), (1, length), (FAR, 1), (0, FAR), (FAR, -FAR), (0, -FAR)]
 
 
 def calls():

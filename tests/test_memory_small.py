@@ -6,32 +6,7 @@ import unittest
 from reprise.classes import Classes
 from reprise.errors import BadLetter, BadStretch, NoPlace
 from reprise.memory import Memories
-from tests.plain import GREATEST, plain_firsts, some_sayings
-
-FAR = 10 ** 45 - 1
-
-
-def plain_notes(told, rows):
-    """For each first that is settled its letter."""
-    notes = {}
-    for number, letter, at, many in rows:
-        for place in range(at, at + many):
-            notes.setdefault(told[place], letter)
-    return notes
-
-
-def plain_quarrel(told, rows):
-    """The first quarrel, of all pairs of memories and all places that are alike to both."""
-    quarrels = []
-    for one, its_letter, its_at, its_many in rows:
-        for other, letter, at, many in rows:
-            if one < other and letter != its_letter:
-                shared = set(told[its_at:its_at + its_many]) & set(told[at:at + many])
-                quarrels += [(other, one, place) for place in range(len(told)) if told[place] in shared]
-    if not quarrels:
-        return None
-    other, one, place = min(quarrels)
-    return one, other, place
+from tests.plain import FAR, GREATEST, plain_firsts, plain_notes, plain_quarrel, some_sayings
 
 
 def some_memories(chance, length, count, letters):

@@ -4,9 +4,7 @@ import unittest
 
 from reprise.classes import Classes
 from reprise.errors import BadLength, BadStretch, NoPlace
-from tests.plain import GREATEST
-
-FAR = 10 ** 45 - 1
+from tests.plain import FAR, GREATEST
 
 
 class Making(unittest.TestCase):
