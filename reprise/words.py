@@ -8,10 +8,14 @@ class Unfit(Exception):
 
 
 def words_of(row):
-    """The words of a row, with one blank between each two."""
+    """The words of a row, with one blank between each two.
+
+    A line feed parts no words: any word may stand as a letter in an order, also one
+    that has a line feed. Wherever else such a word stands, it fits nothing.
+    """
     words = row.split(" ")
-    if "" in words or "\n" in row:
-        raise Unfit("one blank stands between words, and nothing else")
+    if "" in words:
+        raise Unfit("one blank stands between words, none ahead and none behind")
     return words
 
 

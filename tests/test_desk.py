@@ -207,6 +207,7 @@ class Refusals(unittest.TestCase):
         self.refuse(desk, "note a 0 1", "full")
         self.refuse(desk, "note a 0 31", "stretch")
         self.refuse(desk, "note A 0 1", "letter")
+        self.refuse(desk, "note a\n 0 1", "letter")
         self.assertEqual(desk.tell("alike 0 24 1 straight"), "yes")
         self.assertEqual(desk.tell("alike 0 25 1 straight"), "no")
         self.assertEqual(desk.tell("unsay 1"), "unsaid")
@@ -255,14 +256,35 @@ class Refusals(unittest.TestCase):
         desk = small_desk()
         for text in ORDERS:
             words = text.split(" ")
-            for wrong in [" " + text, text + " ", text + "\n", "\n" + text, text + " \n", "  " + text, text.upper(),
-                          text + "\n" + text]:
+            for wrong in [" " + text, text + " ", text + "\n", "\n" + text, text + " \n", "\n " + text, "  " + text,
+                          text.upper(), text + "\n" + text]:
                 self.refuse(desk, wrong, "order")
             for k in range(1, len(words)):
-                for between in ("  ", "\n", " \n", "\n ", "", "   "):
+                for between in ("  ", "\n", "", "   ", " \n ", "\n\n"):
                     self.refuse(desk, " ".join(words[:k]) + between + " ".join(words[k:]), "order")
-        for text in [" ", "  ", "\n", "\n\n", " \n ", "note  0 1", "note \n 0 1", "note a\n 0 1", "note a\nb 0 1"]:
+        for text in [" ", "  ", "\n", "\n\n", " \n ", "note  0 1", "note\na\n0\n1", "note \n  1", "note  \n 0 1"]:
             self.refuse(desk, text, "order")
+
+    def test_line_feeds_within_words(self):
+        desk = small_desk()
+        for text in ORDERS:
+            words = text.split(" ")
+            for k, word in enumerate(words):
+                due = "letter" if words[0] == "note" and k == 1 else "order"
+                for wrong in [word + "\n", "\n" + word, "\n" + word + "\n", word + "\n" + word, "\n", "\n\n"]:
+                    self.refuse(desk, " ".join(words[:k] + [wrong] + words[k + 1:]), due)
+
+    def test_line_feeds_within_a_letters_word(self):
+        desk = small_desk()
+        for letter in ["\nc", "c\n", "a\nb", "\n", "\n\n", "\n" * 5000, "1\n", "note\na"]:
+            self.refuse(desk, f"note {letter} 0 1", "letter")
+            self.refuse(desk, f"note {letter} 0 99", "letter")
+            self.refuse(desk, f"note {letter} {GREATEST} {GREATEST}", "letter")
+            for rest in ["", " 0", " 0 1 1", " x 1", " 0 x", " 0 01", " 0 1 ", "  0 1", " 0 1\n", " 0\n 1", " 0\n1"]:
+                self.refuse(desk, f"note {letter}{rest}", "order")
+            for order in ["unsay", "forget", "longer", "first", "at", "sing"]:
+                self.refuse(desk, f"{order} {letter}", "order")
+        self.assertEqual(desk.tell("note c 0 1"), "note 4")
 
     def test_words_that_are_no_numbers(self):
         desk = small_desk()
